@@ -7,6 +7,15 @@ from importlib import import_module
 LISTED = {
     "wholes": {"divisors": 1, "parted": 1, "units": 1, "sign": 1, "order": 2},
     "polys": {"plus": 2, "minus": 2, "times": 2, "over": 2, "value": 2, "at_power": 2},
+    "roots": {"root_polys": 1, "root_poly": 1, "are_polys": 2},
+    "sums": {
+        "sum_plus": 2, "sum_times": 2, "turned": 2, "spread": 2, "ground": 1, "wheel": 3, "come_to": 2, "grounded": 1,
+        "nought": 1, "same": 2, "shows_nought": 2, "shows_not": 2,
+    },
+    "leads": {
+        "led": 2, "keepers": 1, "round_of": 1, "trace": 1, "norm": 1, "least_wheel": 1, "least_poly": 1,
+        "is_least_poly": 2,
+    },
 }
 
 

@@ -22,6 +22,10 @@ NotImplementedError AttributeError StopIteration NotImplemented staticmethod cla
 BARRED = (
     ast.Global, ast.AsyncFunctionDef, ast.AsyncFor, ast.AsyncWith, ast.Await, ast.Div, ast.MatMult, ast.TryStar,
 )
+WORDS = """type typing typing_extensions enum Enum IntEnum StrEnum Flag IntFlag Generic Protocol ABC ABCMeta namedtuple
+NamedTuple TypedDict TYPE_CHECKING abstractmethod register mro elements open input law version_info attrgetter
+breakpoint builtins compile copyright credits delattr dir eval exec exit gc globals help id importlib license locals
+methodcaller os quit vars sys""".split()
 TOP = (ast.Import, ast.ImportFrom, ast.FunctionDef, ast.ClassDef, ast.Assign, ast.AnnAssign)
 
 
@@ -70,6 +74,27 @@ class Language(unittest.TestCase):
                 taken = {alias.name for alias in node.names}
                 if not node.module.startswith("rootwheel."):
                     self.assertLessEqual(taken, LIBRARY[node.module], name)
+
+    def test_imported_names_and_classes_mean_one_thing(self):
+        for path in FILES:
+            nodes = list(ast.walk(ast.parse(path.read_text())))
+            taken = [alias.name for node in nodes if isinstance(node, ast.ImportFrom) for alias in node.names]
+            taken += [node.name for node in nodes if isinstance(node, ast.ClassDef)]
+            self.assertEqual(len(taken), len(set(taken)), path)
+            bound = [node.arg for node in nodes if isinstance(node, ast.arg)]
+            bound += [node.name for node in nodes if isinstance(node, ast.FunctionDef)]
+            bound += [node.id for node in nodes if isinstance(node, ast.Name) and not isinstance(node.ctx, ast.Load)]
+            self.assertEqual([name for name in bound if name in taken], [], path)
+            self.assertEqual([name for name in bound if name in WORDS], [], path)
+            # What a bare underscore takes is never read.
+            read = [node.id for node in nodes if isinstance(node, ast.Name) and isinstance(node.ctx, ast.Load)]
+            self.assertNotIn("_", read, path)
+
+    def test_powers_are_plain(self):
+        for name, node in self.nodes():
+            if isinstance(node, (ast.BinOp, ast.AugAssign)) and isinstance(node.op, ast.Pow):
+                power = node.right if isinstance(node, ast.BinOp) else node.value
+                self.assertIsInstance(power, ast.Constant, (name, node.lineno))
 
     def test_words(self):
         known = vars(__import__("builtins"))
