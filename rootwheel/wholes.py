@@ -2,7 +2,7 @@
 
 from math import gcd, isqrt
 
-from rootwheel.errors import NoOrder
+from rootwheel.errors import NoOrder, NoPrime
 
 
 def divisors(n):
@@ -61,3 +61,27 @@ def order(a, n):
         power = power * step % n
         k += 1
     return k
+
+
+def is_prime(number):
+    """Whether the number, any whole one, is a prime."""
+    return number > 1 and parted(number) == [(number, 1)]
+
+
+def check_odd_prime(p):
+    """Refuse with NoPrime whatever is no odd prime."""
+    if p == 2 or not is_prime(p):
+        raise NoPrime("the number is no odd prime")
+
+
+def power_by(a, k, n):
+    """What a to the power k, k from 0 on, leaves by n."""
+    power = 1 % n
+    square = a % n
+    left = k
+    while left > 0:
+        if left % 2 == 1:
+            power = power * square % n
+        square = square * square % n
+        left //= 2
+    return power

@@ -16,6 +16,9 @@ LISTED = {
         "led": 2, "keepers": 1, "round_of": 1, "trace": 1, "norm": 1, "least_wheel": 1, "least_poly": 1,
         "is_least_poly": 2,
     },
+    "periods": {"crowds": 2, "periods": 2, "table": 2, "is_table": 3, "plain_wheels": 1},
+    "byprimes": {"parted_by_prime": 2, "is_parted_by_prime": 3},
+    "signs": {"sign_by": 2, "sign_sum": 1, "square_of": 1, "sign_power": 2, "shows_sign": 3},
 }
 
 
