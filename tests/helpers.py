@@ -2,6 +2,7 @@
 
 from copy import deepcopy
 from functools import cache
+from itertools import count
 
 
 def lists_in(thing):
@@ -131,9 +132,11 @@ def bent_ones(thing):
 
 def stream(seed):
     """Whole numbers of up to seventy figures that look like chance, the same in each run."""
-    while True:
+    # A small seed needs some turns to grow as long as the others.
+    for turn in count():
         seed = (seed * 6364136223846793005 + 1442695040888963407) % 2 ** 521
-        yield seed >> 289
+        if turn > 9:
+            yield seed >> 289
 
 
 def numbers_from(source, many, low, high):
