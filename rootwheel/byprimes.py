@@ -40,7 +40,7 @@ def led_round(j, p, m):
     return trimmed(f)
 
 
-def split(f, steady, p):
+def pieces_of(f, steady, p):
     """The parts of f by each of which the steady polynomial leaves one number."""
     parts = [shared(f, minus(steady, trimmed([c])), p) for c in range(p)]
     return [part for part in parts if len(part) > 1]
@@ -56,7 +56,7 @@ def least_parts(m, p):
         steady = led_round(j, p, m)
         small = [part for part in parts if len(part) == size]
         great = [part for part in parts if len(part) > size]
-        parts = small + [piece for part in great for piece in split(part, steady, p)]
+        parts = small + [piece for part in great for piece in pieces_of(part, steady, p)]
     return parts
 
 
